@@ -1,0 +1,1 @@
+"""Hunger, wounds, light, burden, and a shop."""
