@@ -1,16 +1,16 @@
 """The calls on what is in the pack: find, drop, eat, fill."""
 
 from hungerhouse.refusals import ACCEPTED, BAD_COUNT, GONE, NO_SUCH_KIND, OF_NO_USE, TOO_FEW, TOO_HEAVY
-from hungerhouse.state import is_gone, is_too_much, weight_of
+from hungerhouse.state import has_kind, is_gone, is_too_much, weight_of
 
 MOST_OF_A_KIND = 10000
 MOST_FED = 2000000
 MOST_FUEL = 1000000
 
 
-# Every call that moves things looks at these two first, in this order.
+# Every call that moves what one carries looks at these two first, in this order.
 def kind_refusal(house, kind):
-    if kind >= len(house.weights):
+    if not has_kind(house, kind):
         return NO_SUCH_KIND
     if is_gone(house):
         return GONE

@@ -22,6 +22,26 @@ NUMBER_RANGES = {
     8: ((1, 10000),),
     # buy: kind, n
     9: ((0, 15), (1, 10000)),
+    # sell: kind, n
+    10: ((0, 15), (1, 10000)),
+    # stock: kind, n
+    11: ((0, 15), (1, 10000)),
+    # status
+    12: (),
+    # price: kind, n
+    13: ((0, 15), (1, 10000)),
+    # when
+    14: (),
+    # pack
+    15: (),
+    # burden
+    16: (),
+    # worth
+    17: (),
+    # shop
+    18: (),
+    # ahead: ticks
+    19: ((1, 1000000),),
 }
 
 # The rows of open, the only call that has some: weights, base prices, food values, fuel values.

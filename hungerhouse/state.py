@@ -1,5 +1,9 @@
 """What a house keeps, and what follows from it at once."""
 
+# One is hungry, and then weak, as soon as fed is this or less.
+HUNGRY_FED = 300000
+WEAK_FED = 100000
+
 
 # A new one isn't open yet: opening it gives it what has no value of its own at first.
 class House:
@@ -27,14 +31,45 @@ class House:
         self.clock = 0
 
 
+# The rows that opening gives are never changed, so the copy may share them; pack and stock are its own.
+def copy_of(house):
+    other = House()
+    other.opened = house.opened
+    other.capacity = house.capacity
+    other.markup = house.markup
+    other.pays = house.pays
+    other.regen = house.regen
+    other.most_hits = house.most_hits
+    other.coins = house.coins
+    other.shop_coins = house.shop_coins
+    other.weights = house.weights
+    other.prices = house.prices
+    other.foods = house.foods
+    other.fuels = house.fuels
+    other.pack = list(house.pack)
+    other.stock = list(house.stock)
+    other.fed = house.fed
+    other.hits = house.hits
+    other.healed = house.healed
+    other.fuel = house.fuel
+    other.lit = house.lit
+    other.drain = house.drain
+    other.clock = house.clock
+    return other
+
+
+def has_kind(house, kind):
+    return kind < len(house.weights)
+
+
 def is_gone(house):
     return house.fed == 0 or house.hits == 0
 
 
 def mood_of(house):
-    if house.fed > 300000:
+    if house.fed > HUNGRY_FED:
         return 0
-    if house.fed > 100000:
+    if house.fed > WEAK_FED:
         return 1
     if house.fed > 0:
         return 2

@@ -54,6 +54,50 @@ def buy(kind, n):
     return [9, kind, n]
 
 
+def sell(kind, n):
+    return [10, kind, n]
+
+
+def stock(kind, n):
+    return [11, kind, n]
+
+
+def status():
+    return [12]
+
+
+def price(kind, n):
+    return [13, kind, n]
+
+
+def when():
+    return [14]
+
+
+def pack():
+    return [15]
+
+
+def burden():
+    return [16]
+
+
+def worth():
+    return [17]
+
+
+def shop():
+    return [18]
+
+
+def ahead(ticks):
+    return [19, ticks]
+
+
+# What these answer tells all that may change in a house, but for the drain, which burden's rate shows.
+ASKED = (status(), when(), pack(), burden(), worth(), shop())
+
+
 def take_apart(flat):
     """The answers, a list for each call."""
     found = []
@@ -79,7 +123,7 @@ def last(*calls):
     return ask(*calls)[-1]
 
 
-def stocked(stock, **told):
+def stocked(counts, **told):
     """An opened house with this in the shop's stock."""
     house = House()
     call = opening(**told)
@@ -89,7 +133,9 @@ def stocked(stock, **told):
         rows.append(call[place + 1:place + 1 + call[place]])
         place += 1 + call[place]
     assert answer_call(house, 0, call[1:8], rows) == [0]
-    house.stock = list(stock)
+    for kind, n in enumerate(counts):
+        if n > 0:
+            assert ask_house(house, stock(kind, n)) == [0, n]
     return house
 
 

@@ -5,7 +5,8 @@ import unittest
 
 import hungerhouse.house
 from hungerhouse.house import answers
-from tests.helper import ask, buy, drain, drop, eat, fill, find, hurt, light, opening, take_apart, wait
+from tests.helper import (ASKED, ahead, ask, burden, buy, drain, drop, eat, fill, find, hurt, light, opening, pack,
+                          price, sell, shop, status, stock, take_apart, wait, when, worth)
 
 
 def flat(*calls):
@@ -13,10 +14,11 @@ def flat(*calls):
 
 
 MANY = flat(
-    opening(capacity=50, regen=300, weights=(1, 0, 3), foods=(7, 0, 1), fuels=(0, 60, 2)),
-    *[call for turn in range(33) for call in
+    opening(capacity=50, regen=300, coins=90, shop_coins=50, weights=(1, 0, 3), foods=(7, 0, 1), fuels=(0, 60, 2)),
+    *[call for turn in range(18) for call in
       (find(0, 1), find(1, 2), find(2, 3), eat(turn % 3), fill(turn % 3), light(turn % 2), wait(1 + turn), drain(turn),
-       hurt(1 + turn % 2), drop(2, 3), buy(turn % 4, 1), [2, 16, 1])],
+       hurt(1 + turn % 2), drop(2, 3), stock(0, 2), buy(turn % 4, 1), sell(1, 1), status(), price(turn % 4, 3), when(),
+       pack(), burden(), worth(), shop(), ahead(1 + turn), drop(16, 1))],
     wait(1), opening(), wait(1))
 
 
@@ -90,11 +92,36 @@ class InterfaceTest(unittest.TestCase):
         self.assertEqual(told[2:], [[0, 2000], [0, 1999, 1, 2, 10, 0, 0]] * 199)
 
     def test_answers_of_every_call_in_one_list(self):
-        told = ask(opening(capacity=10, regen=1000, weights=(1, 1), foods=(2, 0), fuels=(0, 55)), find(0, 4),
-                   find(1, 3), drop(0, 1), eat(0), fill(1), light(1), hurt(4), wait(3), drain(10), wait(3), buy(0, 1),
-                   light(0))
+        told = ask(opening(capacity=10, regen=1000, coins=30, shop_coins=9, weights=(1, 1), prices=(4, 5), foods=(2, 0),
+                           fuels=(0, 55)),
+                   find(0, 4), find(1, 3), drop(0, 1), eat(0), fill(1), light(1), hurt(4), wait(3), drain(10), wait(3),
+                   stock(0, 2), buy(0, 1), sell(1, 2), status(), price(1, 3), when(), pack(), burden(), worth(), shop(),
+                   ahead(4), light(0))
         self.assertEqual(told, [[0], [0, 4], [0, 3], [0, 3], [0, 902], [0, 55], [0, 2], [0, 6],
-                                [0, 3, 899, 0, 9, 2, 52], [0, 1010], [0, 3, 895, 0, 10, 1, 49], [-6], [0, 0]])
+                                [0, 3, 899, 0, 9, 2, 52], [0, 1010], [0, 3, 895, 0, 10, 1, 49], [0, 2], [0, 5], [0, 5],
+                                [0, 895, 0, 10, 1, 49, 10, 895970, 0, 6, 0], [0, 18, 7], [0, 591, 789, 888, 49],
+                                [0, 3, 0], [0, 3, 0, 1010], [0, 42, 30], [0, 9, 1, 2], [0, 4, 891, 0, 10, 1, 45],
+                                [0, 0]])
+
+    def test_the_example_of_the_readme(self):
+        calls = [0, 100, 20, 50, 0, 10, 0, 70, 1, 1, 1, 10, 1, 5, 1, 0, 1, 0, 3, 3, 0, 6, 10, 10, 0, 2, 17]
+        self.assertEqual(answers(calls), [1, 0, 2, 0, 3, 2, 0, 905, 7, 0, 10, 895, 0, 10, 0, 0, 2, 0, 10, 3, 0, 10, 10])
+
+    def test_calls_without_arguments_take_none(self):
+        calls = flat(opening(), *ASKED, *ASKED, wait(1))
+        told = take_apart(answers(calls))
+        self.assertEqual(len(told), 14)
+        self.assertEqual([len(answer) for answer in told], [1] + [11, 5, 2, 4, 3, 3] * 2 + [7])
+        self.assertEqual(told[1:7], told[7:13])
+
+    def test_the_longest_answers(self):
+        told = ask(opening(weights=[1] * 16), *[shop()] * 399)
+        self.assertEqual(told[1:], [[0, 0] + [0] * 16] * 399)
+
+    def test_four_hundred_looks_ahead(self):
+        told = ask(opening(foods=(2000,), regen=10000, most_hits=10000), find(0, 1), eat(0), hurt(9999),
+                   *[ahead(1000000)] * 396)
+        self.assertEqual(told[4:], [[0, 2000, 0, 3, 10000, 0, 0]] * 396)
 
 
 if __name__ == "__main__":
